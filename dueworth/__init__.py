@@ -1,0 +1,1 @@
+"""Dueworth: what deeds that share their jars must be paid ahead."""
