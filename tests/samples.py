@@ -7,6 +7,8 @@ LEAVES = ("rest", "pay", "put", "use")
 NAMES = ("a", "b", "zz", "oil", "sixsix")
 COSTS = ((0, 1), (1, 1), (7, 2), (999, 1), (1, 9), (10 ** 80 + 1, 10))
 
+SMALL_COSTS = ((0, 1), (1, 1), (7, 2), (999, 1), (1, 9), (5, 6))
+
 REST = ("rest",)
 PAY = ("pay", (3, 2))
 PUT = ("put", "b", 4)
@@ -25,23 +27,22 @@ ONE_OF_EACH = (
 )
 
 
-def random_body(chance, deep):
+def random_body(chance, deep, heads=HEADS, names=NAMES, things=9, costs=COSTS):
     """A body of at most so many parts one within another."""
-    head = chance.choice(HEADS if deep > 1 else LEAVES)
+    head = chance.choice([head for head in heads if deep > 1 or head in LEAVES])
     if head == "rest":
         return ("rest",)
     if head == "pay":
-        return ("pay", chance.choice(COSTS))
+        return ("pay", chance.choice(costs))
     if head == "put":
-        return ("put", chance.choice(NAMES), chance.randint(1, 9))
+        return ("put", chance.choice(names), chance.randint(1, things))
     if head == "use":
-        return ("use", chance.choice(NAMES))
-    if head == "often":
-        return ("often", random_body(chance, deep - 1))
+        return ("use", chance.choice(names))
     words = (head,)
     if head == "take":
-        words = ("take", chance.choice(NAMES), chance.randint(1, 9))
-    return words + (random_body(chance, deep - 1), random_body(chance, deep - 1))
+        words = ("take", chance.choice(names), chance.randint(1, things))
+    sides = 1 if head == "often" else 2
+    return words + tuple(random_body(chance, deep - 1, heads, names, things, costs) for side in range(sides))
 
 
 def random_bodies(count, deep, seed):
@@ -57,6 +58,78 @@ def random_houses(count, seed):
         deeds = tuple((chance.choice(NAMES), random_body(chance, 4)) for deed in range(chance.randint(1, 6)))
         houses.append((jars, deeds))
     return houses
+
+
+def house_let_by(chance, things=9, deep=6, most_parts=20):
+    """A house that is let by, within the bounds."""
+    jars = ("a", "b", "zz", "oil")[:chance.choice((0, 1, 2, 2, 3, 3, 4))]
+    heads = ("rest", "pay", "then", "then", "either", "often")
+    if jars:
+        heads += ("put", "put", "take", "take")
+    deeds = []
+    for name in ("oil", "make", "b", "mend")[:chance.randint(1, 4)]:
+        body = random_body(chance, deep, heads, jars, things, SMALL_COSTS)
+        while parts_of(body) > most_parts:
+            body = random_body(chance, deep, heads, jars, things, SMALL_COSTS)
+        deeds.append((name, body))
+    return (jars, tuple(deeds))
+
+
+def houses_let_by(count, seed, things=9, deep=6):
+    chance = random.Random(seed)
+    return [house_let_by(chance, things, deep) for number in range(count)]
+
+
+def sides_of(body):
+    """The bodies right within a body."""
+    return [thing for thing in body[1:] if isinstance(thing, tuple) and isinstance(thing[0], str)]
+
+
+def parts_of(body):
+    """How many parts a body has."""
+    return 1 + sum(parts_of(side) for side in sides_of(body))
+
+
+def random_trace(chance, body, most=3):
+    """A trace of a body, each often gone by at most 3 goings of at most so many times."""
+    if body[0] == "then":
+        return (random_trace(chance, body[1], most), random_trace(chance, body[2], most))
+    if body[0] in ("either", "take"):
+        side = chance.randint(0, 1)
+        return (side, random_trace(chance, body[-2 + side], most))
+    if body[0] == "often":
+        return tuple(
+            (chance.randint(1, most), random_trace(chance, body[1], most)) for going in range(chance.randint(0, 3))
+        )
+    return ()
+
+
+def random_story(chance, house, deep=3, most=3):
+    """A story of a house, its agains at most so many within one another."""
+    story = []
+    for part in range(chance.randint(1 if deep < 3 else 0, 3)):
+        if deep > 1 and chance.randint(0, 2) == 0:
+            story.append(("again", chance.randint(1, most), random_story(chance, house, deep - 1, most)))
+        else:
+            d = chance.randrange(len(house[1]))
+            story.append(("do", d, random_trace(chance, house[1][d][1], most)))
+    return tuple(story)
+
+
+def near_things(thing):
+    """All things built like this one with one thing put otherwise, at any place."""
+    if isinstance(thing, str):
+        yield from ("", "do", "again", thing + "s", thing[1:], 0, 1, (), (thing,))
+    elif isinstance(thing, int):
+        yield from (thing + 1, thing - 1, 0, 1, -1, -thing, 10 ** 6, (), (thing,), (0, ()))
+    else:
+        yield from ((), thing[:-1], thing[1:], thing[::-1], thing + thing, (thing,), 0, 1, -1)
+        for more in ((), 0, 1, (1, ()), (0, ())):
+            yield thing + (more,)
+            yield (more,) + thing
+        for place, inner in enumerate(thing):
+            for near in near_things(inner):
+                yield thing[:place] + (near,) + thing[place + 1:]
 
 
 def kinds_of(thing):

@@ -1,0 +1,154 @@
+"""Other tellings of ways through deeds and stories, for the tests: step by step along the charts.
+
+What is refused is told as a pair: the refusal's name and its number.
+"""
+
+import re
+from fractions import Fraction
+
+from dueworth.charts import chart
+from dueworth.errors import Stuck, TooLong
+
+
+def outcome(ask, *things):
+    """What a function tells, or its refusal."""
+    try:
+        return ask(*things)
+    except Stuck as stuck:
+        return ("Stuck", stuck.row)
+    except TooLong as too_long:
+        return ("TooLong", too_long.most)
+
+
+def pair(cost):
+    return (cost.numerator, cost.denominator)
+
+
+def written(thing):
+    """A thing of tuples, texts and numbers, each in a tuple with a comma behind it."""
+    if isinstance(thing, tuple):
+        return "(" + "".join(written(one) + "," for one in thing) + ")"
+    return repr(thing)
+
+
+def trace_pattern(body):
+    """The pattern of a body's traces, as they are written."""
+    if body[0] == "then":
+        return rf"\({trace_pattern(body[1])},{trace_pattern(body[2])},\)"
+    if body[0] in ("either", "take"):
+        return rf"\((?:0,{trace_pattern(body[-2])},|1,{trace_pattern(body[-1])},)\)"
+    if body[0] == "often":
+        return rf"\((?:\([1-9][0-9]*,{trace_pattern(body[1])},\),)*\)"
+    return r"\(\)"
+
+
+def story_pattern(house, deep):
+    """The pattern of a house's stories with at most so many parts within one another."""
+    if deep == 0:
+        return r"\(\)"
+    deeds = [rf"\('do',{d},{trace_pattern(deed[1])},\)," for d, deed in enumerate(house[1])]
+    again = rf"\('again',[1-9][0-9]*,(?!\(\)){story_pattern(house, deep - 1)},\),"
+    return rf"\((?:{'|'.join(deeds)}|{again})*\)"
+
+
+def matches(pattern, thing):
+    return re.fullmatch(pattern, written(thing)) is not None
+
+
+def choices(body, trace):
+    """The choices of a trace as they are made: 0 to the row told first, 1 to the row told behind it."""
+    if body[0] == "then":
+        yield from choices(body[1], trace[0])
+        yield from choices(body[2], trace[1])
+    elif body[0] in ("either", "take"):
+        yield trace[0]
+        yield from choices(body[-2 + trace[0]], trace[1])
+    elif body[0] == "often":
+        for many, inner in trace:
+            for number in range(many):
+                yield 0
+                yield from choices(body[1], inner)
+        yield 1
+
+
+class Way:
+    """A way along the chart of a house's deed by a trace: at a row, with jars and cost."""
+
+    def __init__(self, house, jars, d, trace):
+        self.rows = chart(house[1][d][1])
+        self.names = house[0]
+        self.jars = list(jars)
+        self.cost = Fraction(0)
+        self.row = 0
+        self.chosen = choices(house[1][d][1], trace)
+
+    def at_end(self):
+        return self.rows[self.row] == ("end",)
+
+    def step(self):
+        """What is done at the row is done, and one goes on; False where it is stuck."""
+        row = self.rows[self.row]
+        if row[0] in ("pay", "put"):
+            if row[0] == "pay":
+                self.cost += Fraction(*row[1])
+            else:
+                self.jars[self.names.index(row[1])] += row[2]
+            self.row = row[-1]
+            return True
+        side = next(self.chosen)
+        if row[0] == "take" and side == 0:
+            place = self.names.index(row[1])
+            if self.jars[place] < row[2]:
+                return False
+            self.jars[place] -= row[2]
+        self.row = row[-2 + side]
+        return True
+
+
+def walked(house, jars, d, trace, most):
+    """What `done` is to tell, walked along the chart."""
+    way = Way(house, jars, d, trace)
+    seen = []
+    while True:
+        if len(seen) == most:
+            return ("TooLong", most)
+        seen.append((way.row, tuple(way.jars), pair(way.cost)))
+        if way.at_end():
+            assert list(way.chosen) == []
+            return seen
+        if not way.step():
+            return ("Stuck", way.row)
+
+
+def doings(story):
+    """The doings (d, trace) of a story, one by one."""
+    for head, number, inner in story:
+        if head == "do":
+            yield number, inner
+        else:
+            for again in range(number):
+                yield from doings(inner)
+
+
+def told_by_doings(house, jars, story, most):
+    """What `told` is to tell, each doing walked along its chart."""
+    found = []
+    cost = Fraction(0)
+    for number, (d, trace) in enumerate(doings(story)):
+        if number == most:
+            return ("TooLong", most)
+        way = Way(house, jars, d, trace)
+        while not way.at_end():
+            if not way.step():
+                return ("Stuck", number)
+        jars = tuple(way.jars)
+        cost += way.cost
+        found.append((d, jars, pair(cost)))
+    return found
+
+
+def one_less(jars):
+    """The same counts with one thing less of one jar, for each jar that holds some."""
+    for place, count in enumerate(jars):
+        if count > 0:
+            yield jars[:place] + (count - 1,) + jars[place + 1:]
