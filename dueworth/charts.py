@@ -3,9 +3,14 @@
 from dueworth.bodies import parts_in
 
 
+def has_row(part):
+    """Whether a part has a row of its own."""
+    return part[0] not in ("rest", "then")
+
+
 def rows_in(body):
     """How many rows a body has, the end not counted."""
-    return len([part for part in parts_in(body) if part[0] not in ("rest", "then")])
+    return len([part for part in parts_in(body) if has_row(part)])
 
 
 def begin(body, first, behind):

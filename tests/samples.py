@@ -90,6 +90,14 @@ def parts_of(body):
     return 1 + sum(parts_of(side) for side in sides_of(body))
 
 
+def oftens_in(body):
+    """The oftens of a body, as they stand."""
+    found = [body] if body[0] == "often" else []
+    for side in sides_of(body):
+        found.extend(oftens_in(side))
+    return found
+
+
 def random_trace(chance, body, most=3):
     """A trace of a body, each often gone by at most 3 goings of at most so many times."""
     if body[0] == "then":

@@ -282,7 +282,7 @@ class TestAlongTheChart(unittest.TestCase):
             rows = [number for number, row in enumerate(chart(body)) if row[0] == "often"]
             self.assertEqual(oftens(body), len(rows))
             for number, row in enumerate(rows):
-                inner = all_oftens(body)[number][1]
+                inner = samples.oftens_in(body)[number][1]
                 for goings in ((), ((1, plain_trace(inner)),),
                                ((2, samples.random_trace(chance, inner)), (1, plain_trace(inner)))):
                     trace = led_to(body, number, goings)
@@ -305,13 +305,6 @@ def parts_met(body, trace):
             for time in range(many):
                 yield from parts_met(body[1], inner)
                 yield body
-
-
-def all_oftens(body):
-    found = [body] if body[0] == "often" else []
-    for side in samples.sides_of(body):
-        found.extend(all_oftens(side))
-    return found
 
 
 if __name__ == "__main__":

@@ -152,3 +152,51 @@ def one_less(jars):
     for place, count in enumerate(jars):
         if count > 0:
             yield jars[:place] + (count - 1,) + jars[place + 1:]
+
+
+def moved_by(house, d, trace):
+    """The numbers of the jars out of which a trace takes, and of those into which it puts."""
+    taken, brought = set(), set()
+    way = Way(house, (10 ** 9,) * len(house[0]), d, trace)
+    while not way.at_end():
+        before = list(way.jars)
+        way.step()
+        for jar, count in enumerate(before):
+            if way.jars[jar] != count:
+                (taken if way.jars[jar] < count else brought).add(jar)
+    return taken, brought
+
+
+def onward(house, rows, state, most):
+    """The states (d, row, jars) that come behind one; a jar is told to hold no more than `most` things."""
+    d, number, jars = state
+    row = rows[d][number]
+    if row == ("end",):
+        return [(other, 0, jars) for other in range(len(rows))]
+    if row[0] not in ("put", "take"):
+        return [(d, there, jars) for there in row[1:] if isinstance(there, int)]
+    place = house[0].index(row[1])
+    if row[0] == "put":
+        return [(d, row[3], jars[:place] + (min(most, jars[place] + row[2]),) + jars[place + 1:])]
+    states = [(d, row[4], jars)]
+    if jars[place] >= row[2]:
+        states.append((d, row[3], jars[:place] + (jars[place] - row[2],) + jars[place + 1:]))
+    return states
+
+
+def explored(house, most):
+    """The jars filled and the rows come to by stories from empty jars, found by going all ways there are.
+
+    Told are a set of jars' numbers and a set of (d, row).
+    """
+    rows = [chart(deed[1]) for deed in house[1]]
+    waiting = [(d, 0, (0,) * len(house[0])) for d in range(len(rows))]
+    seen = set(waiting)
+    while waiting:
+        state = waiting.pop()
+        for other in onward(house, rows, state, most):
+            if other not in seen:
+                seen.add(other)
+                waiting.append(other)
+    filled = {jar for state in seen for jar, count in enumerate(state[2]) if count > 0}
+    return filled, {state[:2] for state in seen}
