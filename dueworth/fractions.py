@@ -42,6 +42,28 @@ def less(one, other):
     return one[0] * other[1] < other[0] * one[1]
 
 
+def highest(fractions):
+    """The one of some fractions that is worth the most."""
+    found = fractions[0]
+    for one in fractions:
+        if less(found, one):
+            found = one
+    return found
+
+
+def together(fractions):
+    """All of some fractions added up."""
+    found = (0, 1)
+    for one in fractions:
+        found = plus(found, one)
+    return found
+
+
+def worth_of(numbers, fractions):
+    """Whole numbers times fractions, place by place, added up."""
+    return together([times((number, 1), one) for number, one in zip(numbers, fractions)])
+
+
 def whole(one):
     """The greatest whole number that isn't above a fraction."""
     return one[0] // one[1]

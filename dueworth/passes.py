@@ -29,12 +29,16 @@ def passes(house, d):
     return passes_of(house[1][d][1], fillable(house))
 
 
+def oftens_come_to(body, names):
+    """The oftens of a body to which one can come, taking only of jars of these names: pairs (number, what it goes)."""
+    oftens = [found for found in parts_reached(body, names) if found[0][0] == "often"]
+    return [(number, found[0][1]) for number, found in enumerate(oftens) if found[1]]
+
+
 def rounds(house, d):
     """The rounds (number, t) of a house's deed, of oftens that are come to, in order."""
     names = fillable(house)
-    oftens = [found for found in parts_reached(house[1][d][1], names) if found[0][0] == "often"]
     told = []
-    for number, found in enumerate(oftens):
-        if found[1]:
-            told.extend([(number, trace) for trace in passes_of(found[0][1], names)])
+    for number, inner in oftens_come_to(house[1][d][1], names):
+        told.extend([(number, trace) for trace in passes_of(inner, names)])
     return told

@@ -4,6 +4,7 @@ Of each its text, the fillable jars' names, and for each deed the rows that are 
 """
 
 import samples
+from dueworth.lines import line_count
 from dueworth.reader import read_house
 
 TEXTS = (
@@ -60,6 +61,12 @@ HOUSES = tuple((read_house(text), tuple(names.split()), rows) for text, names, r
 def many_houses():
     """Houses of few things, so that all their ways can be gone."""
     return samples.houses_let_by(250, 71, things=2, deep=4)
+
+
+def houses_of_lines(seed):
+    """Houses of at most 24 lines."""
+    few = [house for house in [row[0] for row in HOUSES] + many_houses()[:60] if line_count(house) <= 24]
+    return few + samples.rich_houses(150, seed)
 
 
 # How many things a jar is told to hold at the most where all ways are gone, by how many jars there are.

@@ -1,6 +1,9 @@
 """Bodies and houses for the tests, the same ones each time."""
 
 import random
+from fractions import Fraction
+
+from dueworth.lines import line_count
 
 HEADS = ("rest", "pay", "put", "then", "either", "take", "often", "use")
 LEAVES = ("rest", "pay", "put", "use")
@@ -80,6 +83,35 @@ def houses_let_by(count, seed, things=9, deep=6):
     return [house_let_by(chance, things, deep) for number in range(count)]
 
 
+def guarded(chance, body, jars, things):
+    """A body like this one, but what an often goes takes things, so that it needn't gain each time."""
+    if body[0] == "often":
+        inner = guarded(chance, body[1], jars, things)
+        return ("often", ("take", chance.choice(jars), chance.randint(1, things), inner, REST))
+    sides = sides_of(body)
+    return body[:len(body) - len(sides)] + tuple(guarded(chance, side, jars, things) for side in sides)
+
+
+def rich_houses(count, seed, things=9):
+    """Houses of many parts and at most 24 lines, some of whose rounds take as much as they bring."""
+    chance = random.Random(seed)
+    houses = []
+    while len(houses) < count:
+        jars, deeds = house_let_by(chance, things)
+        if jars:
+            deeds = tuple((name, guarded(chance, body, jars, things)) for name, body in deeds)
+        most = max(parts_of(body) for name, body in deeds)
+        if 6 <= most <= 24 and 4 <= line_count((jars, deeds)) <= 24:
+            houses.append((jars, deeds))
+    return houses
+
+
+def random_fraction(chance, most=10 ** 6, bottom=2520):
+    """A fraction from nought on, often a small one."""
+    part = chance.choice((1, 1, 2, 3, 9, chance.randint(1, bottom)))
+    return pair(Fraction(chance.randint(0, chance.choice((1, 9, 999, most)) * part), part))
+
+
 def sides_of(body):
     """The bodies right within a body."""
     return [thing for thing in body[1:] if isinstance(thing, tuple) and isinstance(thing[0], str)]
@@ -98,17 +130,21 @@ def oftens_in(body):
     return found
 
 
-def random_trace(chance, body, most=3):
-    """A trace of a body, each often gone by at most 3 goings of at most so many times."""
+def random_trace(chance, body, most=3, names=None):
+    """A trace of a body, each often gone by at most 3 goings of at most so many times.
+
+    Where names are told it takes only of jars of these names.
+    """
     if body[0] == "then":
-        return (random_trace(chance, body[1], most), random_trace(chance, body[2], most))
+        return tuple(random_trace(chance, side, most, names) for side in body[1:])
     if body[0] in ("either", "take"):
         side = chance.randint(0, 1)
-        return (side, random_trace(chance, body[-2 + side], most))
+        if body[0] == "take" and names is not None and body[1] not in names:
+            side = 1
+        return (side, random_trace(chance, body[-2 + side], most, names))
     if body[0] == "often":
-        return tuple(
-            (chance.randint(1, most), random_trace(chance, body[1], most)) for going in range(chance.randint(0, 3))
-        )
+        goings = range(chance.randint(0, 3))
+        return tuple((chance.randint(1, most), random_trace(chance, body[1], most, names)) for going in goings)
     return ()
 
 
@@ -138,6 +174,10 @@ def near_things(thing):
         for place, inner in enumerate(thing):
             for near in near_things(inner):
                 yield thing[:place] + (near,) + thing[place + 1:]
+
+
+def pair(cost):
+    return (cost.numerator, cost.denominator)
 
 
 def kinds_of(thing):

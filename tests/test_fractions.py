@@ -6,14 +6,10 @@ from fractions import Fraction
 
 from dueworth.errors import BadText
 from dueworth.fractions import fraction, less, minus, plus, read_fraction, show_fraction, times, whole
+from samples import pair
 
 TOPS = tuple(range(-13, 14)) + (-2520, 2520, 999, 10 ** 6, -(10 ** 6), 10 ** 40, -(3 ** 90))
 BOTTOMS = tuple(n for n in range(-13, 14) if n) + (2520, -2520, 10 ** 6, 6 ** 50, -(10 ** 40))
-
-
-def pair(worth):
-    return (worth.numerator, worth.denominator)
-
 
 FRACTIONS = sorted({pair(Fraction(top, bottom)) for top in range(-7, 8) for bottom in range(1, 8)})
 FRACTIONS = FRACTIONS + [(10 ** 6, 2519), (-(10 ** 6), 2519), (10 ** 60 + 1, 3 ** 80), (-(10 ** 700), 7)]

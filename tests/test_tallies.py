@@ -7,7 +7,8 @@ from fractions import Fraction
 import samples
 from dueworth.doing import done
 from dueworth.tallies import tally
-from walking import one_less, outcome, pair, walked
+from samples import pair
+from walking import one_less, outcome, walked
 
 MILLION = 10 ** 6
 PAY = ("pay", (2, 3))

@@ -8,6 +8,7 @@ from fractions import Fraction
 
 from dueworth.charts import chart
 from dueworth.errors import Stuck, TooLong
+from samples import oftens_in, pair, sides_of
 
 
 def outcome(ask, *things):
@@ -18,10 +19,6 @@ def outcome(ask, *things):
         return ("Stuck", stuck.row)
     except TooLong as too_long:
         return ("TooLong", too_long.most)
-
-
-def pair(cost):
-    return (cost.numerator, cost.denominator)
 
 
 def written(thing):
@@ -200,3 +197,33 @@ def explored(house, most):
                 waiting.append(other)
     filled = {jar for state in seen for jar, count in enumerate(state[2]) if count > 0}
     return filled, {state[:2] for state in seen}
+
+
+def numbered_within(body, first):
+    """The sides of a body, each with the number that its first often has where its own has `first`."""
+    first += 1 if body[0] == "often" else 0
+    for side in sides_of(body):
+        yield side, first
+        first += len(oftens_in(side))
+
+
+def taken_apart(body, trace, first=0):
+    """A trace without its goings, and a list of (number, many, t): each going's often, how often, and it without goings.
+
+    The oftens of the body are numbered from `first` on.
+    """
+    sides = list(numbered_within(body, first))
+    if body[0] == "then":
+        parts = [taken_apart(side, inner, number) for (side, number), inner in zip(sides, trace)]
+        return tuple(part[0] for part in parts), parts[0][1] + parts[1][1]
+    if body[0] in ("either", "take"):
+        side, number = sides[trace[0]]
+        inner, goings = taken_apart(side, trace[1], number)
+        return (trace[0], inner), goings
+    goings = []
+    if body[0] == "often":
+        for many, going in trace:
+            inner, within = taken_apart(body[1], going, first + 1)
+            goings.append((first, many, inner))
+            goings.extend((number, many * times, one) for number, times, one in within)
+    return (), goings
