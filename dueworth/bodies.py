@@ -17,6 +17,13 @@ def parts_in(body):
     return found
 
 
+def changed(body, change):
+    """A body with each of its parts changed, those within a part ahead of it."""
+    sides = sides_of(body)
+    words = body[:len(body) - len(sides)]
+    return change(words + tuple([changed(side, change) for side in sides]))
+
+
 def parts(body):
     """How many bodies are in a body, itself too."""
     return len(parts_in(body))

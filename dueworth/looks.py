@@ -10,6 +10,13 @@ def refuse_twice(name, ahead):
         raise NoHouse("twice", name)
 
 
+def refuse_meeting(names, others):
+    """NoHouse with the first of some names that is among others."""
+    for name in names:
+        if name in others:
+            raise NoHouse("meets", name)
+
+
 def refuse_part(part, jars, usable):
     """NoHouse where a part has a jar that isn't there or a use that may not be; usable None lets none be."""
     if part[0] in ("put", "take") and part[1] not in jars:
@@ -41,7 +48,5 @@ def look(house):
 
 def look_user(user, house):
     """True where a user of a house's deeds is let by, else NoHouse."""
-    for jar in user[0]:
-        if jar in house[0]:
-            raise NoHouse("meets", jar)
+    refuse_meeting(user[0], house[0])
     return look_with(user, [deed[0] for deed in house[1]])

@@ -16,7 +16,7 @@ def fillable_in(house):
     return [house[0][step[0]] for step in filling(house)]
 
 
-def steps_from(house, row, by_name, names):
+def steps_from(row, by_name, names):
     """Where one can go on from a row: pairs (row, what is asked for more than the left there)."""
     if row[0] == "end":
         return []
@@ -48,7 +48,7 @@ def least_lefts(house, jar_worths):
     names = fillable_in(house)
     told = []
     for deed, come_to in zip(house[1], rows_come_to(house)):
-        steps = [steps_from(house, row, by_name, names) for row in chart(deed[1])]
+        steps = [steps_from(row, by_name, names) for row in chart(deed[1])]
         lefts = [dearest_way(steps, n, (n,)) if n in come_to else Fraction(0) for n in range(len(steps))]
         told.append(tuple(pair(left) for left in lefts))
     return tuple(told)
@@ -69,7 +69,7 @@ def holds(house, paper):
         if left[-1] < 0:
             return False
         for number in come_to:
-            for there, asked in steps_from(house, rows[number], by_name, names):
+            for there, asked in steps_from(rows[number], by_name, names):
                 if left[number] < left[there] + asked:
                     return False
     return True
@@ -95,13 +95,22 @@ def random_worths(chance, house, most=10 ** 6):
     return tuple(random_fraction(chance, most) for jar in house[0])
 
 
+def random_shares(chance, house):
+    """Shares from nought on, so that passes that take nothing bring things for some of the others."""
+    shares = []
+    for line in lines(house):
+        takes = min(line[3], default=0) < 0
+        share = random_fraction(chance, 9 if takes else 1000)
+        shares.append((0, 1) if chance.random() < 0.3 else share)
+    return tuple(shares)
+
+
 def gaining(line, jar_worths):
     return worth(line[2]) + dot(line[3], worths(jar_worths)) > 0
 
 
 def doings_from_empty(chance, house, count):
-    """What a story of about so many deeds, drawn from empty jars, comes to: tuples (d, trace, jars ahead, rows come to).
-    """
+    """A story of at most so many deeds, drawn from empty jars: tuples (d, trace, jars ahead, what one comes to)."""
     jars = (0,) * len(house[0])
     for number in range(count):
         d = chance.randrange(len(house[1]))

@@ -160,6 +160,11 @@ def random_story(chance, house, deep=3, most=3):
     return tuple(story)
 
 
+def story_parts(story):
+    """How many `do` and `again` there are in a story."""
+    return sum(1 + (story_parts(part[2]) if part[0] == "again" else 0) for part in story)
+
+
 def near_things(thing):
     """All things built like this one with one thing put otherwise, at any place."""
     if isinstance(thing, str):

@@ -12,6 +12,7 @@ from dueworth.reader import read_house
 from dueworth.stories import is_story, story_tally
 from dueworth.tellings import told
 from fillings import HOUSES, many_houses
+from samples import story_parts
 from walking import told_by_doings
 
 BILLION = 10 ** 9
@@ -26,11 +27,6 @@ TANGLE = read_house(
 )
 
 
-def parts_of(story):
-    """How many `do` and `again` there are in a story."""
-    return sum(1 + (parts_of(part[2]) if part[0] == "again" else 0) for part in story)
-
-
 class TestFilled(unittest.TestCase):
     def assert_filled(self, house, counts):
         story = filled(house, counts)
@@ -39,7 +35,7 @@ class TestFilled(unittest.TestCase):
         self.assertEqual(demand, (0,) * len(house[0]))
         for brought, count in zip(effect, counts):
             self.assertGreaterEqual(brought, count)
-        self.assertLessEqual(parts_of(story), 40)
+        self.assertLessEqual(story_parts(story), 40)
         self.assertLessEqual(samples.kinds_of(story), {"tuple", "str", "int"})
         self.assertEqual(filled(house, counts), story)
         return story
@@ -95,8 +91,8 @@ class TestFilled(unittest.TestCase):
     def test_few_parts(self):
         for house, names, rows in HOUSES:
             fillable = tuple(BILLION if jar in names else 0 for jar in house[0])
-            self.assertLessEqual(parts_of(filled(house, fillable)), 8)
-        self.assertLessEqual(parts_of(filled(CHAIN, (BILLION,) * 4)), 8)
+            self.assertLessEqual(story_parts(filled(house, fillable)), 8)
+        self.assertLessEqual(story_parts(filled(CHAIN, (BILLION,) * 4)), 8)
 
     def test_nought_of_all(self):
         for house in [row[0] for row in HOUSES] + many_houses():

@@ -40,6 +40,11 @@ LEAST = (
      (1, 2), ((1, 0), (0, 0, 2, 0, 6, 0))),
 )
 
+CHANGE = (
+    "jars x y\ndeed a : (put x 1)\ndeed b : (often (take x 1 (put y 2) rest))\n"
+    "deed c : (often (take y 1 (pay 1) rest))"
+)
+
 # A house's text, worths, and d, number and trace of the first round that gains.
 FIRST_ROUNDS = (
     ("jars\ndeed a : (often (pay 1))", (), (0, 0, ())),
@@ -54,12 +59,10 @@ FIRST_ROUNDS = (
     ("jars x y\ndeed a : (put x 1)\ndeed b : (often (take x 2 (often (put y 1)) (often (take y 3 (pay 1) rest))))",
      (0, 0), (1, 2, (0, ()))),
     ("jars x\ndeed a : (often (then (often (pay 1)) (put x 1)))", (0,), (0, 1, ())),
-    ("jars x y\ndeed a : (put x 1)\ndeed b : (often (take x 1 (put y 2) rest))\ndeed c : (often (take y 1 (pay 1) rest))",
-     (3, 1), None),
-    ("jars x y\ndeed a : (put x 1)\ndeed b : (often (take x 1 (put y 2) rest))\ndeed c : (often (take y 1 (pay 1) rest))",
-     (1, 1), (1, 0, (0, ()))),
-    ("jars x y\ndeed a : (put x 1)\ndeed b : (often (take x 1 (put y 2) rest))\ndeed c : (often (take y 1 (pay 1) rest))",
-     (0, 0), (2, 0, (0, ()))),
+    (CHANGE, (3, 1), None),
+    (CHANGE, (2, 1), None),
+    (CHANGE, (1, 1), (1, 0, (0, ()))),
+    (CHANGE, (0, 0), (2, 0, (0, ()))),
 )
 
 
@@ -221,7 +224,7 @@ class TestPaperBy(unittest.TestCase):
                 if row not in come_to:
                     self.assertEqual(left, NOUGHT)
 
-    def assert_round(self, chance, house, jar_worths, line):
+    def assert_round(self, chance, house, jar_worths):
         """No paper holds with these worths, whatever its lefts."""
         charts = [chart(deed[1]) for deed in house[1]]
         for left in ((0, 1), (10 ** 6, 1)):
@@ -243,7 +246,7 @@ class TestPaperBy(unittest.TestCase):
                 found[told[0]] += 1
                 if first:
                     self.assertEqual(told[1], first[0])
-                    self.assert_round(chance, house, jar_worths, told[1])
+                    self.assert_round(chance, house, jar_worths)
                 else:
                     self.assert_paper(house, jar_worths, told[1])
                 self.assertEqual(paper_by(house, jar_worths), told)

@@ -11,7 +11,7 @@ from dueworth.reader import read_house
 from dueworth.shares import shown_by
 from dueworth.weighing import weighed
 from fillings import houses_of_lines
-from ledgers import columns_of, random_worths
+from ledgers import columns_of, random_shares, random_worths
 from samples import pair
 from sums import are_fractions, dot, is_fraction, wholes, worth, worths
 
@@ -66,16 +66,6 @@ def shown(house, shares):
             mix[line[0]] += amount
     cost = dot([worth(line[2]) for line in found], amounts)
     return tuple(pair(number) for number in mix), pair(cost)
-
-
-def random_shares(chance, house):
-    """Shares from nought on, so that passes that take nothing bring things for some of the others."""
-    shares = []
-    for line in lines(house):
-        takes = min(line[3], default=0) < 0
-        share = samples.random_fraction(chance, 9 if takes else 1000)
-        shares.append(NOUGHT if chance.random() < 0.3 else share)
-    return tuple(shares)
 
 
 class TestShownBy(unittest.TestCase):
