@@ -185,6 +185,15 @@ def drawn_from(source, sources, package):
     return ["__init__.py"] * (source.name != "__init__.py") + [name for name in names if name in sources]
 
 
+def package_name_faults(sources):
+    """The package's own file binds no name that one of its files has."""
+    own = sources.get("__init__.py")
+    bound = own.defs + own.classes + own.imports + list(own.values) if own else []
+    for name in bound:
+        if name + ".py" in sources:
+            yield "L16", "__init__.py", 0
+
+
 def circle_faults(sources, package):
     for name in sources:
         seen = []
@@ -371,9 +380,18 @@ def call_faults(source):
                 yield "L22", node.lineno
         elif isinstance(node.func, ast.Attribute) and node.func.attr in METHODS and names:
             yield "L22", node.lineno
+        if is_call_of(node, ("isinstance",)) and not asks_for_kinds(source, node):
+            yield "L22", node.lineno
         for keyword in node.keywords:
             if keyword.arg in ("reverse", "strict") and not isinstance(keyword.value, ast.Constant):
                 yield "L22", node.lineno
+
+
+def asks_for_kinds(source, node):
+    """Whether an isinstance asks for the kinds that it may ask for: one, or a tuple of some."""
+    kinds = node.args[1].elts if isinstance(node.args[1], ast.Tuple) else [node.args[1]]
+    allowed = ("int", "str", "bool", "list", "tuple", "dict") + ERRORS + tuple(source.classes + source.imports)
+    return all(isinstance(kind, ast.Name) and kind.id in allowed for kind in kinds)
 
 
 def walked_at_once(source, node):
@@ -431,6 +449,18 @@ def try_faults(source):
     for node in source.of(ast.Raise):
         if not isinstance(node.exc, ast.Call) or not isinstance(node.exc.func, ast.Name):
             yield "L19", node.lineno
+        if node.cause is not None and not raised_from_its_own(source, node):
+            yield "L19", node.lineno
+
+
+def raised_from_its_own(source, node):
+    """Whether a raise is from None, or from what its own handler took."""
+    if isinstance(node.cause, ast.Constant):
+        return node.cause.value is None
+    over = source.above(node)
+    while over is not None and not isinstance(over, (ast.ExceptHandler, ast.FunctionDef)):
+        over = source.above(over)
+    return isinstance(over, ast.ExceptHandler) and isinstance(node.cause, ast.Name) and node.cause.id == over.name
 
 
 def narrow(inner, name):
@@ -513,5 +543,6 @@ def faults(texts, package="dueworth"):
         found.extend((rule, name, line) for rule, line in import_faults(source, sources, package))
         found.extend((rule, name, line) for rule, line in method_use_faults(source, methods, values))
     found.extend(circle_faults(sources, package))
+    found.extend(package_name_faults(sources))
     found.extend(own_name_faults(methods, values))
     return found

@@ -116,11 +116,17 @@ BROKEN = (
     ("L19", "def f(a):\n    try:\n        return a\n    except Exception:\n        return a\n"),
     ("L19", "def f(a):\n    try:\n        return a[1:2]\n    except IndexError:\n        return a\n"),
     ("L19", "def f(a):\n    raise a\n"),
+    ("L19", "def f(a, b):\n    raise ValueError(a) from b\n"),
+    ("L19", "def f(a):\n    try:\n        return int(a)\n    except ValueError as e:\n        raise ValueError(a) from a\n"),
+    ("L19", "def f(a):\n    try:\n        return a[0]\n    except KeyError:\n        raise ValueError(a) from KeyError(a)\n"),
     ("L20", "def f(a):\n    return a is 1\n"),
     ("L21", "def f(a: int):\n    return a\n"),
     ("L21", "def f(a) -> int:\n    return a\n"),
     ("L22", "def f(a):\n    return [len]\n"),
     ("L22", "def f(a):\n    return int(a, base=3)\n"),
+    ("L22", "def f(a):\n    return isinstance(a, set)\n"),
+    ("L22", "def f(a):\n    return isinstance(a, (int, frozenset))\n"),
+    ("L22", "def f(a, b):\n    return isinstance(a, b)\n"),
     ("L22", "def f(a, b):\n    return sorted(a, reverse=b)\n"),
     ("L23", "def f(a):\n    b = zip(a, a)\n    return list(b)\n"),
     ("L23", "def f(a):\n    return a.items()\n"),
@@ -161,6 +167,10 @@ class TestLanguage(unittest.TestCase):
         for rule, name in (("L1", "a-b.py"), ("L14", "Case.py"), ("L14", "test_it.py"), ("L14", "len.py")):
             self.assertIn((rule, name, 0), faults({"__init__.py": "", name: ""}))
         self.assertIn(("L14", "__init__.py", 0), faults({"case.py": ""}))
+
+    def test_the_names_of_the_files_are_not_bound(self):
+        self.assertIn(("L16", "__init__.py", 0), faults({"__init__.py": "case = 1\n", "case.py": ""}))
+        self.assertEqual(faults({"__init__.py": "other = 1\n", "case.py": ""}), [])
 
 
 if __name__ == "__main__":
